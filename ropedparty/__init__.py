@@ -1,0 +1,1 @@
+"""A field of crevasses: what may lie hidden, and what is surely firm."""
