@@ -39,6 +39,38 @@ def agreeing(numbers, cell, value):
     return [number for number in numbers if (number >> cell) & 1 == value]
 
 
+def ever_holes(numbers):
+    """The cells that are holes in some of the hidden fields, as one number."""
+    ever = 0
+    for number in numbers:
+        ever = ever | number
+    return ever
+
+
 def holes(number):
     """The cells of a hidden field that are holes, the least first."""
-    return [cell for cell in range(number.bit_length()) if (number >> cell) & 1 == 1]
+    cells = []
+    left = number
+    while left > 0:
+        # Only the lowest bit stays: this goes from hole to hole, not from cell to cell.
+        lowest = left & -left
+        cells.append(lowest.bit_length() - 1)
+        left = left ^ lowest
+    return cells
+
+
+def hole_counts(numbers, cell_count):
+    """For each cell, in how many of the hidden fields it's a hole."""
+    counts = [0] * cell_count
+    for number in numbers:
+        for cell in holes(number):
+            counts[cell] += 1
+    return counts
+
+
+def cells_number(cells):
+    """The number of the hidden field whose holes are these cells; one may stand there twice."""
+    number = 0
+    for cell in cells:
+        number = number | (1 << cell)
+    return number

@@ -1,4 +1,6 @@
-"""Ways over firm cells, told by their directions."""
+"""Ways: told by their cells, and over firm cells by their directions."""
+
+LONGEST_WAY = 12
 
 # To the right and downwards, for the directions 0 to 7.
 STEPS = ((0, -1), (1, -1), (1, 0), (1, 1), (0, 1), (-1, 1), (-1, 0), (-1, -1))
@@ -11,6 +13,20 @@ def neighbour(width, height, cell, direction):
     if 0 <= x < width and 0 <= y < height:
         return y * width + x
     return None
+
+
+def leads_on(width, height, cell, other):
+    """Whether some direction leads from the cell to the other one."""
+    return any([neighbour(width, height, cell, direction) == other for direction in range(len(STEPS))])
+
+
+def is_way(width, height, cells):
+    """Whether the numbers are the cells of a way in the field."""
+    if not 1 <= len(cells) <= LONGEST_WAY:
+        return False
+    if not all([0 <= cell < width * height for cell in cells]):
+        return False
+    return all([leads_on(width, height, cell, other) for cell, other in zip(cells, cells[1:])])
 
 
 def distances(width, height, firm, goal):

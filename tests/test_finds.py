@@ -2,7 +2,7 @@
 
 import unittest
 
-from tests.helper import HUGE, STATE, ask, last
+from tests.helper import HUGE, ask, last, unchanged_by
 
 # Four cells in a row, one crevasse of two cells: none, 01, 12 or 23.
 ROW = ("field", 4, 1, 2, 2, 1)
@@ -24,10 +24,7 @@ class Found(unittest.TestCase):
 
     def assert_refused(self, call, number):
         before = [ROW, ("found", 2, 0), ("found", 0, 1)]
-        told = ask(*before, *STATE, call, *STATE)
-        size = len(STATE)
-        self.assertEqual(told[3 + size], [number], call)
-        self.assertEqual(told[3:3 + size], told[4 + size:], call)
+        self.assertEqual(unchanged_by(before, call), [number], call)
 
     def test_out_of_range(self):
         for cell in (-1, 4, 5, HUGE, -HUGE):
@@ -75,13 +72,11 @@ class Undo(unittest.TestCase):
         self.assertEqual(told, [[4], [1], [4], [3], [2, 0, 0]])
 
     def test_refused(self):
-        size = len(STATE)
         wrong = [(("undo", c), -1) for c in (-1, 4, HUGE, -HUGE)]
         wrong += [(("undo", c), -4) for c in (1, 3)]
         for call, number in wrong:
-            told = ask(ROW, ("found", 2, 0), ("found", 0, 1), *STATE, call, *STATE)
-            self.assertEqual(told[3 + size], [number], call)
-            self.assertEqual(told[3:3 + size], told[4 + size:], call)
+            before = [ROW, ("found", 2, 0), ("found", 0, 1)]
+            self.assertEqual(unchanged_by(before, call), [number], call)
 
     def test_undone_already(self):
         told = ask(ROW, ("found", 2, 0), ("undo", 2), ("undo", 2))

